@@ -1,0 +1,78 @@
+// Package symcut: modules that are compiled again just when what they looked up has changed: see DOC.md.
+package symcut
+
+import (
+	"maps"
+	"slices"
+	"strings"
+
+	"symcut/api"
+	"symcut/syntax"
+)
+
+// Store: modules, their objects, the image.
+type Store struct {
+	modules map[string]kept
+}
+
+// kept: what is kept of a module.
+type kept struct {
+	text string
+}
+
+// New makes a store without modules.
+func New() *Store { return &Store{modules: map[string]kept{}} }
+
+func (s *Store) has(module string) bool {
+	_, ok := s.modules[module]
+	return ok
+}
+
+// Set gives a module its text (P3).
+func (s *Store) Set(module string, text string) api.Errno {
+	if !syntax.IsName(module) {
+		return api.ErrName
+	}
+	if len(text) > api.MaxText || !s.has(module) && len(s.modules) >= api.MaxModules {
+		return api.ErrLimit
+	}
+	// Copies: a piece of a great string would keep all of that alive.
+	s.modules[strings.Clone(module)] = kept{text: strings.Clone(text)}
+	return api.OK
+}
+
+// Remove takes a module away (P3).
+func (s *Store) Remove(module string) api.Errno {
+	if !s.has(module) {
+		return api.ErrUnknown
+	}
+	delete(s.modules, module)
+	return api.OK
+}
+
+// Build compiles what must be, and links (P4).
+func (s *Store) Build() []api.Diagnostic {
+	forms := s.parse()
+	var wrong []api.Diagnostic
+	for _, name := range slices.Sorted(maps.Keys(forms)) {
+		code, place := diagnose(forms, name)
+		if code != api.OK {
+			wrong = append(wrong, api.Diagnostic{Module: name, Code: code, Place: place})
+		}
+	}
+	return wrong
+}
+
+// Run calls a function of the image (P5).
+func (s *Store) Run(module string, function string, args []int, fuel int) (int, api.Errno) {
+	return 0, api.OK
+}
+
+// Compiled tells what was compiled in the last Build (P6).
+func (s *Store) Compiled() []string { return nil }
+
+// Uses tells what a module looked up (P6).
+func (s *Store) Uses(module string) ([]api.Use, api.Errno) { return nil, api.OK }
+
+// Image tells the image (P5).
+func (s *Store) Image() string { return "" }
