@@ -3,6 +3,7 @@ package check
 
 import (
 	"symcut/api"
+	"symcut/names"
 	"symcut/syntax"
 )
 
@@ -12,22 +13,20 @@ type variable struct {
 }
 
 type checker struct {
-	module  *syntax.Module
-	imports []*syntax.Module
-	scope   []variable // the innermost one last
-	code    api.Errno
-	place   int
+	view  *names.View
+	scope []variable // the innermost one last
+	code  api.Errno
+	place int
 }
 
 // Module tells the one thing that is told of a module, and its place: OK and 0,
-// if nothing is wrong. The imports stand in the order of the module's own; one
-// that has no interface is nil.
-func Module(module *syntax.Module, imports []*syntax.Module) (api.Errno, int) {
-	c := &checker{module: module, imports: imports}
+// if nothing is wrong.
+func Module(view *names.View) (api.Errno, int) {
+	c := &checker{view: view}
 	c.checkImports()
 	c.checkNames()
-	for i := range module.Functions {
-		c.checkFunction(&module.Functions[i])
+	for i := range view.Module.Functions {
+		c.checkFunction(&view.Module.Functions[i])
 	}
 	return c.code, c.place
 }
@@ -56,9 +55,9 @@ func rank(code api.Errno) int {
 
 func (c *checker) checkImports() {
 	seen := map[string]int{}
-	for i, line := range c.module.Imports {
+	for i, line := range c.view.Module.Imports {
 		c.once(seen, line.Name, line.Place)
-		if c.imports[i] == nil {
+		if c.view.Imports[i] == nil {
 			c.tell(api.ErrImport, line.Place)
 		}
 	}
@@ -66,7 +65,7 @@ func (c *checker) checkImports() {
 
 func (c *checker) checkNames() {
 	seen := map[string]int{}
-	for _, f := range c.module.Functions {
+	for _, f := range c.view.Module.Functions {
 		c.once(seen, f.Name, f.Place)
 	}
 }
@@ -142,7 +141,7 @@ func (c *checker) variableType(e *syntax.Expr) syntax.Type {
 }
 
 func (c *checker) callType(e *syntax.Expr) syntax.Type {
-	f := c.lookUp(e.Name)
+	_, f := c.view.Find(e.Name)
 	if f == nil {
 		c.tell(api.ErrUnknown, e.Place)
 		c.all(e.Parts, syntax.Any)
@@ -157,22 +156,6 @@ func (c *checker) callType(e *syntax.Expr) syntax.Type {
 	}
 	c.all(e.Parts[fitting:], syntax.Any)
 	return f.Result
-}
-
-// lookUp gives the function that is called by that name, or nil.
-func (c *checker) lookUp(name string) *syntax.Function {
-	if f := c.module.Own(name); f != nil {
-		return f
-	}
-	for _, m := range c.imports {
-		if m == nil {
-			continue
-		}
-		if f := m.Exported(name); f != nil {
-			return f
-		}
-	}
-	return nil
 }
 
 func (c *checker) ifType(e *syntax.Expr) syntax.Type {

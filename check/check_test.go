@@ -5,6 +5,7 @@ import (
 	"testing"
 
 	"symcut/api"
+	"symcut/names"
 	"symcut/syntax"
 )
 
@@ -38,11 +39,11 @@ func told(t *testing.T, marked string, want api.Errno) {
 	if m == nil {
 		t.Fatalf("%q has not the form at %d", text, wrong)
 	}
-	var imports []*syntax.Module
+	view := &names.View{Name: "m", Module: m}
 	for _, line := range m.Imports {
-		imports = append(imports, imported(m, line.Name))
+		view.Imports = append(view.Imports, imported(m, line.Name))
 	}
-	if code, at := Module(m, imports); code != want || at != place {
+	if code, at := Module(view); code != want || at != place {
 		t.Errorf("%q: %d at %d, want %d at %d", text, code, at, want, place)
 	}
 }

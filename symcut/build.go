@@ -3,6 +3,9 @@ package symcut
 import (
 	"symcut/api"
 	"symcut/check"
+	"symcut/code"
+	"symcut/image"
+	"symcut/names"
 	"symcut/syntax"
 )
 
@@ -22,15 +25,28 @@ func (s *Store) parse() map[string]form {
 	return forms
 }
 
+// view gives what a module sees whose text has the form.
+func view(forms map[string]form, name string) *names.View {
+	v := &names.View{Name: name, Module: forms[name].tree}
+	for _, line := range v.Module.Imports {
+		v.Imports = append(v.Imports, forms[line.Name].tree)
+	}
+	return v
+}
+
 // diagnose tells what is wrong with a module, and where.
 func diagnose(forms map[string]form, name string) (api.Errno, int) {
-	f := forms[name]
-	if f.tree == nil {
+	if f := forms[name]; f.tree == nil {
 		return api.ErrSyntax, f.place
 	}
-	var imports []*syntax.Module
-	for _, line := range f.tree.Imports {
-		imports = append(imports, forms[line.Name].tree)
+	return check.Module(view(forms, name))
+}
+
+// link makes the image of modules with none of which anything is wrong.
+func link(forms map[string]form, modules []string) *image.Image {
+	var objects []code.Object
+	for _, name := range modules {
+		objects = append(objects, code.Compile(view(forms, name)))
 	}
-	return check.Module(f.tree, imports)
+	return image.Link(objects)
 }

@@ -7,12 +7,15 @@ import (
 	"strings"
 
 	"symcut/api"
+	"symcut/image"
+	"symcut/machine"
 	"symcut/syntax"
 )
 
 // Store: modules, their objects, the image.
 type Store struct {
 	modules map[string]kept
+	image   *image.Image // of the last Build; nil, if there is none
 }
 
 // kept: what is kept of a module.
@@ -53,20 +56,51 @@ func (s *Store) Remove(module string) api.Errno {
 // Build compiles what must be, and links (P4).
 func (s *Store) Build() []api.Diagnostic {
 	forms := s.parse()
+	modules := slices.Sorted(maps.Keys(forms))
 	var wrong []api.Diagnostic
-	for _, name := range slices.Sorted(maps.Keys(forms)) {
+	for _, name := range modules {
 		code, place := diagnose(forms, name)
 		if code != api.OK {
 			wrong = append(wrong, api.Diagnostic{Module: name, Code: code, Place: place})
 		}
+	}
+	s.image = nil
+	if len(wrong) == 0 {
+		s.image = link(forms, modules)
 	}
 	return wrong
 }
 
 // Run calls a function of the image (P5).
 func (s *Store) Run(module string, function string, args []int, fuel int) (int, api.Errno) {
-	return 0, api.OK
+	if s.image == nil {
+		return 0, api.ErrBuild
+	}
+	place := s.image.Exported(module, function)
+	if place < 0 {
+		return 0, api.ErrUnknown
+	}
+	params := s.image.Functions[place].Params
+	if len(args) != len(params) {
+		return 0, api.ErrArity
+	}
+	if !fit(args, params) || !within(fuel, 0, api.MaxFuel) {
+		return 0, api.ErrRange
+	}
+	return machine.Run(s.image, place, args, fuel)
 }
+
+// fit tells whether each arg may be handed over for its parameter.
+func fit(args []int, params []syntax.Type) bool {
+	for i, p := range params {
+		if p == syntax.Bool && !within(args[i], 0, 1) {
+			return false
+		}
+	}
+	return true
+}
+
+func within(n, low, high int) bool { return n == max(low, min(n, high)) }
 
 // Compiled tells what was compiled in the last Build (P6).
 func (s *Store) Compiled() []string { return nil }
@@ -75,4 +109,9 @@ func (s *Store) Compiled() []string { return nil }
 func (s *Store) Uses(module string) ([]api.Use, api.Errno) { return nil, api.OK }
 
 // Image tells the image (P5).
-func (s *Store) Image() string { return "" }
+func (s *Store) Image() string {
+	if s.image == nil {
+		return ""
+	}
+	return s.image.Text()
+}

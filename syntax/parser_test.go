@@ -93,3 +93,16 @@ func TestFunctionsByName(t *testing.T) {
 		t.Error("g is the module's own and not exported, h is none")
 	}
 }
+
+func TestSignature(t *testing.T) {
+	for text, want := range map[string]string{
+		"fn f(): int = 1;":                               ":int",
+		"fn f(x: bool): bool = x;":                       "bool:bool",
+		"pub fn f(x: int, y: bool, z: int): int = true;": "int,bool,int:int",
+	} {
+		m, _ := Parse(text)
+		if got := m.Functions[0].Signature(); got != want {
+			t.Errorf("the signature of %s is %q, want %q", text, got, want)
+		}
+	}
+}

@@ -1,5 +1,7 @@
 package syntax
 
+import "strings"
+
 // Type is what an expression gives.
 type Type int
 
@@ -8,6 +10,16 @@ const (
 	Int
 	Bool
 )
+
+func (t Type) String() string {
+	switch t {
+	case Int:
+		return "int"
+	case Bool:
+		return "bool"
+	}
+	return "any"
+}
 
 // Module is a text that has the form.
 type Module struct {
@@ -29,6 +41,15 @@ type Function struct {
 	Params []Param
 	Result Type
 	Body   Expr
+}
+
+// Signature gives the parameters' types, with commas between, a colon, the type.
+func (f *Function) Signature() string {
+	var types []string
+	for _, p := range f.Params {
+		types = append(types, p.Type.String())
+	}
+	return strings.Join(types, ",") + ":" + f.Result.String()
 }
 
 // Param is one parameter; Place is that of its name.
