@@ -107,8 +107,8 @@ func (c *coder) binding(e *syntax.Expr) {
 
 func (c *coder) call(e *syntax.Expr) {
 	c.parts(e)
-	module, f := c.view.Find(e.Name)
-	c.out.Calls = append(c.out.Calls, Symbol{module, f.Name})
+	module, _ := c.view.Find(e.Name)
+	c.out.Calls = append(c.out.Calls, Symbol{module, e.Name})
 	c.emit(Call, len(c.out.Calls)-1)
 }
 

@@ -7,6 +7,7 @@ import (
 	"strings"
 
 	"symcut/api"
+	"symcut/code"
 	"symcut/image"
 	"symcut/machine"
 	"symcut/syntax"
@@ -14,17 +15,28 @@ import (
 
 // Store: modules, their objects, the image.
 type Store struct {
-	modules map[string]kept
-	image   *image.Image // of the last Build; nil, if there is none
+	modules  map[string]kept
+	objects  map[string]object
+	compiled map[string]struct{} // in the last Build, whether they are still there or not
+	image    *image.Image        // of the last Build; nil, if there is none
 }
 
-// kept: what is kept of a module.
+// kept: what is kept of a module from Set on.
 type kept struct {
 	text string
 }
 
+// object: what is kept of a module with which nothing was wrong when it was compiled.
+type object struct {
+	text string
+	code code.Object
+	uses []api.Use
+}
+
 // New makes a store without modules.
-func New() *Store { return &Store{modules: map[string]kept{}} }
+func New() *Store {
+	return &Store{modules: map[string]kept{}, objects: map[string]object{}, compiled: map[string]struct{}{}}
+}
 
 func (s *Store) has(module string) bool {
 	_, ok := s.modules[module]
@@ -50,6 +62,7 @@ func (s *Store) Remove(module string) api.Errno {
 		return api.ErrUnknown
 	}
 	delete(s.modules, module)
+	delete(s.objects, module)
 	return api.OK
 }
 
@@ -57,16 +70,19 @@ func (s *Store) Remove(module string) api.Errno {
 func (s *Store) Build() []api.Diagnostic {
 	forms := s.parse()
 	modules := slices.Sorted(maps.Keys(forms))
+	clear(s.compiled)
 	var wrong []api.Diagnostic
 	for _, name := range modules {
-		code, place := diagnose(forms, name)
-		if code != api.OK {
-			wrong = append(wrong, api.Diagnostic{Module: name, Code: code, Place: place})
+		if s.current(forms, name) {
+			continue
+		}
+		if errno, place := s.compile(forms, name); errno != api.OK {
+			wrong = append(wrong, api.Diagnostic{Module: name, Code: errno, Place: place})
 		}
 	}
 	s.image = nil
 	if len(wrong) == 0 {
-		s.image = link(forms, modules)
+		s.image = s.link(modules)
 	}
 	return wrong
 }
@@ -103,10 +119,16 @@ func fit(args []int, params []syntax.Type) bool {
 func within(n, low, high int) bool { return n == max(low, min(n, high)) }
 
 // Compiled tells what was compiled in the last Build (P6).
-func (s *Store) Compiled() []string { return nil }
+func (s *Store) Compiled() []string { return slices.Sorted(maps.Keys(s.compiled)) }
 
 // Uses tells what a module looked up (P6).
-func (s *Store) Uses(module string) ([]api.Use, api.Errno) { return nil, api.OK }
+func (s *Store) Uses(module string) ([]api.Use, api.Errno) {
+	o, ok := s.objects[module]
+	if !ok {
+		return nil, api.ErrUnknown
+	}
+	return slices.Clone(o.uses), api.OK
+}
 
 // Image tells the image (P5).
 func (s *Store) Image() string {

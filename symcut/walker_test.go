@@ -240,16 +240,19 @@ func (d *drawer) binding(module string, typ syntax.Type, room int) string {
 }
 
 func (d *drawer) call(module string, typ syntax.Type, room int) string {
-	name := string("fghkl"[d.r.Intn(5)])
-	_, f := find(d.trees, module, name)
-	if f == nil || f.Result != typ {
-		return d.leaf(typ)
+	for _, i := range d.r.Perm(5) {
+		name := string("fghkl"[i])
+		_, f := find(d.trees, module, name)
+		if f == nil || f.Result != typ {
+			continue
+		}
+		var handed []string
+		for _, p := range f.Params {
+			handed = append(handed, d.expr(module, p.Type, min(room, 1)))
+		}
+		return name + "(" + strings.Join(handed, ",") + ")"
 	}
-	var handed []string
-	for _, p := range f.Params {
-		handed = append(handed, d.expr(module, p.Type, min(room, 1)))
-	}
-	return name + "(" + strings.Join(handed, ",") + ")"
+	return d.leaf(typ)
 }
 
 func (d *drawer) leaf(typ syntax.Type) string {
