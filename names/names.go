@@ -48,7 +48,7 @@ func (v *View) Uses() []api.Use {
 	slices.SortFunc(all, func(a, b api.Use) int {
 		return cmp.Or(cmp.Compare(a.Module, b.Module), cmp.Compare(a.Name, b.Name))
 	})
-	// A name is looked up by each call of it: cloned, the list has no room for all of them.
+	// Cloned again: what is kept of it would else have room for an entry of every call.
 	return slices.Clone(slices.Compact(all))
 }
 
